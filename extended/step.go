@@ -5,6 +5,7 @@ import (
 
 	"overseer/api"
 	"overseer/expression"
+	"overseer/moves"
 )
 
 // machine is a valid extended automaton, which makes steps from states of it.
@@ -20,7 +21,7 @@ func (m machine) start() State {
 
 // step returns the state to which an event leads, whether it is possible, and the error of the model.
 func (m machine) step(s State, event int) (next State, possible bool, e api.Errno) {
-	x, possible, e := m.choose(s, event)
+	x, possible, e := moves.Choose(m.Moves, s.Location, event, s.Values)
 	if e != api.OK || !possible {
 		return State{}, false, e
 	}
@@ -36,38 +37,4 @@ func (m machine) step(s State, event int) (next State, possible bool, e api.Errn
 		return State{}, false, api.ErrOverflow
 	}
 	return next, true, api.OK
-}
-
-// choose returns the move that an event makes in a state, if there is one. All guards are evaluated: that one overflows comes before that two are true.
-func (m machine) choose(s State, event int) (chosen api.Move, possible bool, e api.Errno) {
-	var open []api.Move
-	for _, x := range m.from(s.Location, event) {
-		value, e := expression.Evaluate(x.Guard, s.Values)
-		if e != api.OK {
-			return api.Move{}, false, e
-		}
-		if value == 1 {
-			open = append(open, x)
-		}
-	}
-	switch len(open) {
-	case 0:
-		return api.Move{}, false, api.OK
-	case 1:
-		return open[0], true, api.OK
-	}
-	return api.Move{}, false, api.ErrChoice
-}
-
-// from returns the moves from a location by an event.
-func (m machine) from(location, event int) []api.Move {
-	first, found := slices.BinarySearchFunc(m.Moves, api.Move{From: location, Event: event}, compare)
-	if !found {
-		return nil
-	}
-	after := first
-	for after < len(m.Moves) && compare(m.Moves[after], m.Moves[first]) == 0 {
-		after++
-	}
-	return m.Moves[first:after]
 }

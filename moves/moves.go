@@ -1,7 +1,10 @@
-// Package moves checks what moves over bounded variables consist of, guards and updates. It serves the packages that check automata or models with such moves.
+// Package moves checks what moves over bounded variables consist of, guards and updates, and chooses the move that an event makes. It serves the packages that check or run automata or models with such moves.
 package moves
 
 import (
+	"cmp"
+	"slices"
+
 	"overseer/api"
 	"overseer/expression"
 )
@@ -33,4 +36,37 @@ func CheckUpdates(l []api.Update, n int) api.Errno {
 		}
 	}
 	return api.OK
+}
+
+// Compare compares moves by From, then Event.
+func Compare(x, y api.Move) int {
+	return cmp.Or(cmp.Compare(x.From, y.From), cmp.Compare(x.Event, y.Event))
+}
+
+// Choose returns the one of the moves, which are in their order, that an event makes in a location, if there is one. All guards are evaluated: ErrOverflow of one of them comes before ErrChoice, which says that two are true.
+func Choose(l []api.Move, location, event int, values []int) (chosen api.Move, possible bool, e api.Errno) {
+	var open []api.Move
+	for _, x := range between(l, location, event) {
+		value, e := expression.Evaluate(x.Guard, values)
+		if e != api.OK {
+			return api.Move{}, false, e
+		}
+		if value == 1 {
+			open = append(open, x)
+		}
+	}
+	switch len(open) {
+	case 0:
+		return api.Move{}, false, api.OK
+	case 1:
+		return open[0], true, api.OK
+	}
+	return api.Move{}, false, api.ErrChoice
+}
+
+// between returns the moves from a location by an event.
+func between(l []api.Move, location, event int) []api.Move {
+	first, _ := slices.BinarySearchFunc(l, api.Move{From: location, Event: event}, Compare)
+	after, _ := slices.BinarySearchFunc(l, api.Move{From: location, Event: event + 1}, Compare)
+	return l[first:after]
 }

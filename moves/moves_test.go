@@ -60,3 +60,56 @@ func TestCheckUpdates(t *testing.T) {
 		}
 	}
 }
+
+// P18.3, P19.3: the move that an event makes, and its errors.
+func TestChoose(t *testing.T) {
+	yes, no := expression.True(), expression.False()
+	below := api.Expr{Op: api.OpLt, Args: []api.Expr{variable(0), number(2)}}
+	large := api.Expr{Op: api.OpMul, Args: []api.Expr{number(1 << 16), number(1 << 15)}}
+	over := api.Expr{Op: api.OpLt, Args: []api.Expr{large, number(0)}}
+	l := []api.Move{
+		{From: 0, Event: 1, To: 10, Guard: over},
+		{From: 1, Event: 0, To: 11, Guard: no},
+		{From: 1, Event: 0, To: 12, Guard: below},
+		{From: 1, Event: 2, To: 13, Guard: yes},
+		{From: 1, Event: 2, To: 14, Guard: below},
+		{From: 1, Event: 2, To: 15, Guard: no},
+		{From: 1, Event: 3, To: 16, Guard: yes},
+		{From: 1, Event: 3, To: 17, Guard: yes},
+		{From: 1, Event: 3, To: 18, Guard: over},
+		{From: 2, Event: 1, To: 19, Guard: yes},
+	}
+	for i, c := range []struct {
+		location, event, value, to int
+		possible                   bool
+		e                          api.Errno
+	}{
+		{0, 1, 0, 0, false, api.ErrOverflow},
+		{0, 0, 0, 0, false, api.OK},
+		{0, 2, 0, 0, false, api.OK},
+		{1, 0, 1, 12, true, api.OK},
+		{1, 0, 2, 0, false, api.OK},
+		{1, 1, 0, 0, false, api.OK},
+		{1, 2, 1, 0, false, api.ErrChoice},
+		{1, 2, 2, 13, true, api.OK},
+		{1, 3, 0, 0, false, api.ErrOverflow},
+		{2, 1, 0, 19, true, api.OK},
+		{2, 2, 0, 0, false, api.OK},
+		{3, 1, 0, 0, false, api.OK},
+	} {
+		x, possible, e := moves.Choose(l, c.location, c.event, []int{c.value})
+		if x.To != c.to || possible != c.possible || e != c.e {
+			t.Errorf("%d: Choose = %v, %v, %d", i, x, possible, e)
+		}
+	}
+	if _, possible, e := moves.Choose(nil, 0, 0, nil); possible || e != api.OK {
+		t.Errorf("Choose of no moves: %v, %d", possible, e)
+	}
+	for i, x := range l {
+		for k, y := range l {
+			if n := moves.Compare(x, y); i == k && n != 0 || i < k && n > 0 || i > k && n < 0 || (n == 0) != (x.From == y.From && x.Event == y.Event) {
+				t.Errorf("Compare of %d and %d = %d", i, k, n)
+			}
+		}
+	}
+}
