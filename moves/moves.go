@@ -1,4 +1,4 @@
-// Package moves checks what moves over bounded variables consist of, guards and updates, and chooses the move that an event makes. It serves the packages that check or run automata or models with such moves.
+// Package moves checks what moves over bounded variables consist of, guards and updates, copies moves, and chooses the one that an event makes. It serves the packages that check, run or change automata or models with such moves.
 package moves
 
 import (
@@ -41,6 +41,24 @@ func CheckUpdates(l []api.Update, n int) api.Errno {
 // Compare compares moves by From, then Event.
 func Compare(x, y api.Move) int {
 	return cmp.Or(cmp.Compare(x.From, y.From), cmp.Compare(x.Event, y.Event))
+}
+
+// Copy returns a move that shares no memory with x.
+func Copy(x api.Move) api.Move {
+	x.Guard = copyOf(x.Guard)
+	x.Updates = slices.Clone(x.Updates)
+	for i, u := range x.Updates {
+		x.Updates[i].Value = copyOf(u.Value)
+	}
+	return x
+}
+
+func copyOf(x api.Expr) api.Expr {
+	x.Args = slices.Clone(x.Args)
+	for i, argument := range x.Args {
+		x.Args[i] = copyOf(argument)
+	}
+	return x
 }
 
 // Choose returns the one of the moves, which are in their order, that an event makes in a location, if there is one. All guards are evaluated: ErrOverflow of one of them comes before ErrChoice, which says that two are true.

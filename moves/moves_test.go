@@ -1,6 +1,7 @@
 package moves_test
 
 import (
+	"reflect"
 	"testing"
 
 	"overseer/api"
@@ -111,5 +112,29 @@ func TestChoose(t *testing.T) {
 				t.Errorf("Compare of %d and %d = %d", i, k, n)
 			}
 		}
+	}
+}
+
+// P22.3: a copy of a move is the same move, in other memory.
+func TestCopy(t *testing.T) {
+	made := func() api.Move {
+		guard := api.Expr{Op: api.OpNot, Args: []api.Expr{{Op: api.OpLt, Args: []api.Expr{variable(1), number(3)}}}}
+		value := api.Expr{Op: api.OpNeg, Args: []api.Expr{variable(0)}}
+		return api.Move{From: 3, Event: 2, To: 1, Guard: guard, Updates: []api.Update{{Variable: 1, Value: value}, {Variable: 2, Value: number(4)}}}
+	}
+	x := made()
+	y := moves.Copy(x)
+	if !reflect.DeepEqual(x, y) {
+		t.Errorf("Copy = %v", y)
+	}
+	y.Guard.Args[0].Args[1] = number(5)
+	y.Guard.Args[0] = number(5)
+	y.Updates[0].Value.Args[0] = number(5)
+	y.Updates[1] = api.Update{}
+	if !reflect.DeepEqual(x, made()) {
+		t.Errorf("the copy shares memory with %v", x)
+	}
+	if y := moves.Copy(api.Move{}); !reflect.DeepEqual(y, api.Move{}) {
+		t.Errorf("Copy of nothing = %v", y)
 	}
 }

@@ -7,6 +7,7 @@ import (
 	"overseer/api"
 	"overseer/expression"
 	"overseer/moves"
+	"overseer/named"
 )
 
 // Check returns the error of a model.
@@ -35,43 +36,25 @@ func Check(m api.Model) api.Errno {
 
 // checkNamed returns the first error of a list of things with different names: that of the name comes before that of the thing.
 func checkNamed[T any](l []T, name func(x T) string, check func(x T) api.Errno) api.Errno {
-	taken := make(map[string]bool, len(l))
-	for _, x := range l {
-		n := name(x)
-		switch {
-		case !alphabet.IsName(n):
-			return api.ErrName
-		case taken[n]:
-			return api.ErrDuplicate
-		}
-		taken[n] = true
-		if e := check(x); e != api.OK {
+	_, e := named.Check(l, name, named.CheckName, func(_ int, x T) api.Errno { return check(x) })
+	return e
+}
+
+// checkNames returns the error of a list of names that need not be different.
+func checkNames(l ...string) api.Errno {
+	for _, name := range l {
+		if e := named.CheckName(name); e != api.OK {
 			return e
 		}
 	}
 	return api.OK
 }
 
-// checkDifferent returns the first error of a list of different names.
-func checkDifferent(l []string) api.Errno {
-	return checkNamed(l, func(s string) string { return s }, func(string) api.Errno { return api.OK })
-}
-
-// checkNames returns the error of a list of names that need not be different.
-func checkNames(l ...string) api.Errno {
-	for _, name := range l {
-		if !alphabet.IsName(name) {
-			return api.ErrName
-		}
-	}
-	return api.OK
-}
-
 func checkTemplate(t api.Template) api.Errno {
-	if e := checkDifferent(t.Events); e != api.OK {
+	if e := named.CheckList(t.Events, named.CheckName); e != api.OK {
 		return e
 	}
-	if e := checkDifferent(t.Locations); e != api.OK {
+	if e := named.CheckList(t.Locations, named.CheckName); e != api.OK {
 		return e
 	}
 	m := t.Machine
