@@ -1,4 +1,4 @@
-// Package named checks lists of things with names. It serves the packages that check models.
+// Package named checks lists of things with names. It serves the packages that check models and cells.
 package named
 
 import (
